@@ -1,0 +1,1 @@
+"""Stepsound: sound in few bits, and hearers that come together again."""

@@ -1,0 +1,31 @@
+"""What is heard of a row, and where it ends: [3], [4]."""
+
+from stepsound.coders import need_coder
+from stepsound.kinds import need_row, need_state
+from stepsound.moves import state_behind
+
+
+def heard(coder, row, *, state=(0, 0)):
+    """The tuple of the samples of a row that begins in a state."""
+    _need_all(coder, row, state)
+    samples = []
+    now = state
+    for code in row:
+        now = state_behind(coder, now, code)
+        samples.append(now[0])
+    return tuple(samples)
+
+
+def last_state(coder, row, *, state=(0, 0)):
+    """The state behind the codes of a row that begins in a state."""
+    _need_all(coder, row, state)
+    now = state
+    for code in row:
+        now = state_behind(coder, now, code)
+    return now
+
+
+def _need_all(coder, row, state):
+    need_coder(coder)
+    need_row(coder, row)
+    need_state(coder, state)

@@ -1,0 +1,36 @@
+"""The move of one code: [4]. Whatever is passed here is known to be right."""
+
+
+def rounded(number, divisor):
+    """NUMBER divided by a DIVISOR above 0, rounded toward 0."""
+    # `//` alone rounds down, which is away from 0 for numbers below 0.
+    if number < 0:
+        return -(-number // divisor)
+    return number // divisor
+
+
+def limited(number, least, most):
+    """NUMBER, or the limit beyond which it lies."""
+    return max(least, min(number, most))
+
+
+def change_at(coder, code, place):
+    """The change that a code makes at a place."""
+    share = coder[3][code][0]
+    return rounded(share * coder[2][place], 8)
+
+
+def faded(level, fade):
+    """What a fade leaves of a level."""
+    if fade == 0:
+        return level
+    return level - rounded(level, fade)
+
+
+def state_behind(coder, state, code):
+    """The state to which a code leads a state."""
+    low, high, steps, moves, fade = coder
+    level, place = state
+    turn = moves[code][1]
+    moved = faded(level, fade) + change_at(coder, code, place)
+    return limited(moved, low, high), limited(place + turn, 0, len(steps) - 1)

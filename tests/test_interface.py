@@ -1,0 +1,54 @@
+"""The interface: each name in its own module, with its arguments."""
+
+import importlib
+import inspect
+import unittest
+
+FUNCTIONS = {
+    "coders": {
+        "is_coder": "thing", "need_coder": "thing", "states_of": "coder",
+        "change_of": "coder code place", "led_to": "coder state code",
+    },
+    "texts": {
+        "coder_text": "coder", "read_coder": "text", "row_text": "coder row", "read_row": "coder text",
+    },
+    "hearing": {"heard": "coder row *state", "last_state": "coder row *state"},
+}
+ERRORS = {
+    "BadCoder": "part number", "BadRow": "row word", "BadPaper": "part number", "BadByte": "number",
+    "OutOfPlace": "text", "NoSeam": "text", "TooGreat": "most", "Nothing": "text",
+}
+
+
+def arguments_of(call):
+    """The names of the arguments, those by keyword alone with a star."""
+    told = inspect.signature(call).parameters.values()
+    return " ".join("*" * (one.kind is one.KEYWORD_ONLY) + one.name for one in told)
+
+
+class InterfaceTest(unittest.TestCase):
+    def test_functions(self):
+        for name, calls in FUNCTIONS.items():
+            module = importlib.import_module("stepsound." + name)
+            for call, arguments in calls.items():
+                found = getattr(module, call)
+                self.assertTrue(inspect.isfunction(found))
+                self.assertEqual(found.__module__, module.__name__)
+                self.assertEqual(arguments_of(found), arguments)
+
+    def test_start_is_the_default(self):
+        hearing = importlib.import_module("stepsound.hearing")
+        for call in (hearing.heard, hearing.last_state):
+            self.assertEqual(inspect.signature(call).parameters["state"].default, (0, 0))
+
+    def test_errors(self):
+        module = importlib.import_module("stepsound.errors")
+        for name, arguments in ERRORS.items():
+            found = getattr(module, name)
+            self.assertTrue(inspect.isclass(found))
+            self.assertEqual(found.__module__, module.__name__)
+            self.assertEqual(arguments_of(found), arguments)
+
+
+if __name__ == "__main__":
+    unittest.main()

@@ -1,0 +1,110 @@
+"""Coders of the document, things of every kind, and the move of [4] told a second time."""
+
+from fractions import Fraction
+from itertools import product
+from math import trunc
+from random import Random
+
+SMALL = (-8, 7, (2, 4, 8), ((4, -1), (-4, -1), (8, 1), (-8, 1)), 0)
+TINY = (-1, 1, (1,), ((8, 0), (-8, 0)), 0)
+CLIMB = (0, 8, (1, 4), ((8, -1), (8, 1), (-8, -1)), 0)
+FADING = (-20, 30, (1, 3, 9), ((7, 1), (-7, 1), (1, -2), (-32, 0), (32, 15)), 3)
+LEAST = (0, 0, (1,), ((-32, -15), (-32, -15)), 0)
+GREATEST = (-32768, 32767, (9999,) * 16, ((32, 15),) * 16, 99)
+CODERS = (SMALL, TINY, CLIMB, FADING, LEAST, GREATEST)
+
+HUGE = 10 ** 999
+
+
+def deep_tuple(depth=300):
+    thing = ()
+    for _ in range(depth):
+        thing = (thing,)
+    return thing
+
+
+# None of these is an integer, a tuple of two or five things, a row or a text.
+NO_NUMBERS = (
+    None, True, False, "", "0", "text", b"", b"\x00", 0.0, 1.0, 1.5, float("nan"), 1j,
+    [], [0], [0, 0], {}, {0: 0}, set(), frozenset(), object(), int, len, range(2), lambda: 0,
+    ValueError("0"), Fraction(1), (None,), ((0,),), deep_tuple(), (True, False, None),
+)
+WRONG_NUMBERS = NO_NUMBERS + ((), (0,), (0, 0), (0, 0, 0), HUGE, -HUGE)
+NO_TUPLES = tuple(thing for thing in NO_NUMBERS if not isinstance(thing, tuple)) + (0, 1, -1, HUGE, -HUGE)
+NO_TEXTS = tuple(thing for thing in WRONG_NUMBERS if not isinstance(thing, str)) + (0, 1, ("0",), ["0"])
+
+NO_CODERS = NO_TUPLES + (
+    (), (0,), (0, 0), deep_tuple(), SMALL[:4], SMALL + (0,), (SMALL,), list(SMALL),
+    (None,) * 5, (1, 7) + SMALL[2:], SMALL[:4] + (1,),
+)
+
+NO_PAIRS = NO_NUMBERS + ((), (0,), (0, 0, 0), [0, 0], "ab", b"ab", {0: 0, 1: 1}, 0, 1, HUGE, -HUGE)
+
+
+def no_states(coder):
+    """Things of every kind that are no state of the coder, those next to one among them."""
+    low, high, steps = coder[:3]
+    wrong = [(low - 1, 0), (high + 1, 0), (0, -1), (0, len(steps)), (low - 1, -1), (high + 1, len(steps))]
+    wrong += [(thing, 0) for thing in WRONG_NUMBERS] + [(0, thing) for thing in WRONG_NUMBERS]
+    return NO_PAIRS + tuple(wrong)
+
+
+def told_step(coder, state, code):
+    """The move of [4], by fractions: (CHANGE, STATE)."""
+    low, high, steps, moves, fade = coder
+    level, place = state
+    share, turn = moves[code]
+    change = trunc(Fraction(share * steps[place], 8))
+    if fade:
+        level -= trunc(Fraction(level, fade))
+    level = sorted((low, level + change, high))[1]
+    return change, (level, sorted((0, place + turn, len(steps) - 1))[1])
+
+
+def told_row(coder, row, state):
+    """What is heard of a row, and its last state, by told_step."""
+    samples = []
+    for code in row:
+        state = told_step(coder, state, code)[1]
+        samples.append(state[0])
+    return tuple(samples), state
+
+
+def states(coder):
+    return list(product(range(coder[0], coder[1] + 1), range(len(coder[2]))))
+
+
+def random_coders(many):
+    """Coders of every shape, always the same ones."""
+    rng = Random(21)
+    for _ in range(many):
+        yield (
+            -rng.choice((0, 1, 9, 40)), rng.choice((0, 1, 9, 40)),
+            tuple(rng.randint(1, rng.choice((3, 30, 9999))) for _ in range(rng.randint(1, 16))),
+            tuple((rng.randint(-32, 32), rng.randint(-15, 15)) for _ in range(rng.randint(2, 16))),
+            rng.choice((0, 0, 2, 3, 7, 99)),
+        )
+
+
+def random_row(rng, coder, many):
+    return tuple(rng.randrange(len(coder[3])) for _ in range(many))
+
+
+def replaced(things, index, thing):
+    return things[:index] + (thing,) + things[index + 1:]
+
+
+class Refusals:
+    """Assertions for a unittest.TestCase: the very class of an error, and its fields."""
+
+    def assert_refused(self, error, fields, call, *args, **named):
+        """FIELDS is a dict of the error's fields, {} where only the class is told."""
+        try:
+            result = call(*args, **named)
+        except Exception as caught:
+            self.assertIs(caught.__class__, error)
+            for name, value in fields.items():
+                found = getattr(caught, name)
+                self.assertEqual((name, found, found.__class__), (name, value, value.__class__))
+            return
+        self.fail(f"no {error.__name__} of {call.__name__}, but {result!r:.200}")
