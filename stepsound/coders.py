@@ -2,7 +2,7 @@
 
 from stepsound.errors import BadCoder
 from stepsound.kinds import is_between, is_pair, need_code, need_few_states, need_place, need_state
-from stepsound.moves import change_at, state_behind
+from stepsound.moves import all_states, change_at, state_behind
 
 
 def is_coder(thing):
@@ -22,8 +22,7 @@ def states_of(coder):
     """The tuple of all states of a coder with at most 4,096 of them, in ascending order."""
     need_coder(coder)
     need_few_states(coder, 4096)
-    low, high, steps = coder[:3]
-    return tuple([(level, place) for level in range(low, high + 1) for place in range(len(steps))])
+    return all_states(coder)
 
 
 def change_of(coder, code, place):

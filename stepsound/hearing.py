@@ -2,7 +2,7 @@
 
 from stepsound.coders import need_coder
 from stepsound.kinds import need_row, need_state
-from stepsound.moves import state_behind
+from stepsound.moves import state_behind, state_behind_row
 
 
 def heard(coder, row, *, state=(0, 0)):
@@ -19,10 +19,7 @@ def heard(coder, row, *, state=(0, 0)):
 def last_state(coder, row, *, state=(0, 0)):
     """The state behind the codes of a row that begins in a state."""
     _need_all(coder, row, state)
-    now = state
-    for code in row:
-        now = state_behind(coder, now, code)
-    return now
+    return state_behind_row(coder, row, state)
 
 
 def _need_all(coder, row, state):

@@ -1,4 +1,10 @@
-"""The move of one code: [4]. Whatever is passed here is known to be right."""
+"""The moves of codes: [4]. Whatever is passed here is known to be right."""
+
+
+def all_states(coder):
+    """The tuple of all states of a coder, in ascending order."""
+    low, high, steps = coder[:3]
+    return tuple([(level, place) for level in range(low, high + 1) for place in range(len(steps))])
 
 
 def rounded(number, divisor):
@@ -34,3 +40,11 @@ def state_behind(coder, state, code):
     turn = moves[code][1]
     moved = faded(level, fade) + change_at(coder, code, place)
     return limited(moved, low, high), limited(place + turn, 0, len(steps) - 1)
+
+
+def state_behind_row(coder, row, state):
+    """The state to which the codes of a row lead a state."""
+    now = state
+    for code in row:
+        now = state_behind(coder, now, code)
+    return now

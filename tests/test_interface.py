@@ -13,6 +13,18 @@ FUNCTIONS = {
         "coder_text": "coder", "read_coder": "text", "row_text": "coder row", "read_row": "coder text",
     },
     "hearing": {"heard": "coder row *state", "last_state": "coder row *state"},
+    "repeats": {
+        "settling": "coder row *state", "last_of": "coder row times *state", "sample_at": "coder row number *state",
+    },
+    "maps": {"row_map": "coder row place", "limits_of": "coder row place"},
+    "together": {
+        "together": "coder one other", "check_together": "coder one other paper",
+        "joining_row": "coder one other", "merging_row": "coder place",
+    },
+    "damage": {
+        "received": "coder row damage", "healed": "coder row damage *state",
+        "healing": "coder kind", "check_healing": "coder kind paper",
+    },
 }
 ERRORS = {
     "BadCoder": "part number", "BadRow": "row word", "BadPaper": "part number", "BadByte": "number",
@@ -37,9 +49,12 @@ class InterfaceTest(unittest.TestCase):
                 self.assertEqual(arguments_of(found), arguments)
 
     def test_start_is_the_default(self):
-        hearing = importlib.import_module("stepsound.hearing")
-        for call in (hearing.heard, hearing.last_state):
-            self.assertEqual(inspect.signature(call).parameters["state"].default, (0, 0))
+        for name, calls in FUNCTIONS.items():
+            module = importlib.import_module("stepsound." + name)
+            for call, arguments in calls.items():
+                told = inspect.signature(getattr(module, call)).parameters
+                defaults = {one: told[one].default for one in told if told[one].default is not told[one].empty}
+                self.assertEqual(defaults, {"state": (0, 0)} if "*state" in arguments else {})
 
     def test_errors(self):
         module = importlib.import_module("stepsound.errors")

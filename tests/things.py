@@ -11,6 +11,9 @@ CLIMB = (0, 8, (1, 4), ((8, -1), (8, 1), (-8, -1)), 0)
 FADING = (-20, 30, (1, 3, 9), ((7, 1), (-7, 1), (1, -2), (-32, 0), (32, 15)), 3)
 LEAST = (0, 0, (1,), ((-32, -15), (-32, -15)), 0)
 GREATEST = (-32768, 32767, (9999,) * 16, ((32, 15),) * 16, 99)
+# All rows of three codes bring together all states of DROPS, no row brings together any of STILL.
+DROPS = (0, 3, (1,), ((8, 0), (16, 0)), 0)
+STILL = (-1, 1, (1, 1), ((0, 0), (0, 0)), 0)
 CODERS = (SMALL, TINY, CLIMB, FADING, LEAST, GREATEST)
 
 HUGE = 10 ** 999
@@ -23,11 +26,20 @@ def deep_tuple(depth=300):
     return thing
 
 
+class Odd:
+    """A thing that can neither be compared nor counted, written or asked for its truth."""
+
+    def __eq__(self, *others):
+        raise RuntimeError("an odd thing was touched")
+
+    __ne__ = __lt__ = __le__ = __gt__ = __ge__ = __hash__ = __bool__ = __len__ = __iter__ = __repr__ = __eq__
+
+
 # None of these is an integer, a tuple of two or five things, a row or a text.
 NO_NUMBERS = (
     None, True, False, "", "0", "text", b"", b"\x00", 0.0, 1.0, 1.5, float("nan"), 1j,
     [], [0], [0, 0], {}, {0: 0}, set(), frozenset(), object(), int, len, range(2), lambda: 0,
-    ValueError("0"), Fraction(1), (None,), ((0,),), deep_tuple(), (True, False, None),
+    Odd(), ValueError("0"), Fraction(1), (None,), ((0,),), deep_tuple(), (True, False, None),
 )
 WRONG_NUMBERS = NO_NUMBERS + ((), (0,), (0, 0), (0, 0, 0), HUGE, -HUGE)
 NO_TUPLES = tuple(thing for thing in NO_NUMBERS if not isinstance(thing, tuple)) + (0, 1, -1, HUGE, -HUGE)
@@ -38,7 +50,16 @@ NO_CODERS = NO_TUPLES + (
     (None,) * 5, (1, 7) + SMALL[2:], SMALL[:4] + (1,),
 )
 
+# What is no paper, no damage and no part of either.
+NO_PARTS = NO_NUMBERS + ((), (0,), (0, 0), (0, 0, 0), [()], "always", "lost", -1, 0, 1, 2, 16, HUGE, -HUGE)
+
 NO_PAIRS = NO_NUMBERS + ((), (0,), (0, 0, 0), [0, 0], "ab", b"ab", {0: 0, 1: 1}, 0, 1, HUGE, -HUGE)
+
+
+def coder_with(many, places=1, fade=0):
+    """A coder with so many levels, and so many states at each."""
+    low = -(many // 2)
+    return low, low + many - 1, (8,) * places, ((1, 1), (-1, -1), (3, 0)), fade
 
 
 def no_states(coder):
@@ -47,6 +68,20 @@ def no_states(coder):
     wrong = [(low - 1, 0), (high + 1, 0), (0, -1), (0, len(steps)), (low - 1, -1), (high + 1, len(steps))]
     wrong += [(thing, 0) for thing in WRONG_NUMBERS] + [(0, thing) for thing in WRONG_NUMBERS]
     return NO_PAIRS + tuple(wrong)
+
+
+def is_told_code(coder, thing):
+    return type(thing) is int and 0 <= thing < len(coder[3])
+
+
+def is_told_state(coder, thing):
+    return type(thing) is tuple and len(thing) == 2 and all(type(one) is int for one in thing) and (
+        coder[0] <= thing[0] <= coder[1] and 0 <= thing[1] < len(coder[2]))
+
+
+def is_told_couple(coder, thing):
+    return type(thing) is tuple and len(thing) == 2 and all(is_told_state(coder, one) for one in thing) and (
+        thing[0] < thing[1])
 
 
 def told_step(coder, state, code):
