@@ -5,6 +5,7 @@ is what led_states returns; a graph is a dict of couples with their followers.
 """
 
 from stepsound.moves import all_states, state_behind
+from stepsound.ways import row_along
 
 
 def led_states(coder):
@@ -104,19 +105,9 @@ def row_joining(led, couple):
         for leader in layer:
             for code, follower in enumerate(followers_of(led, leader)):
                 if follower is None:
-                    return _row_along(leaders, leader) + (code,)
+                    return row_along(leaders, leader) + (code,)
                 if follower not in leaders:
                     leaders[follower] = (leader, code)
                     fresh.append(follower)
         layer = fresh
     return None
-
-
-def _row_along(leaders, couple):
-    """The row by which the leaders lead to a couple."""
-    row = []
-    now = couple
-    while leaders[now] is not None:
-        now, code = leaders[now]
-        row.append(code)
-    return tuple(row[::-1])

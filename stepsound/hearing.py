@@ -2,18 +2,13 @@
 
 from stepsound.coders import need_coder
 from stepsound.kinds import need_row, need_state
-from stepsound.moves import state_behind, state_behind_row
+from stepsound.moves import samples_along, state_behind_row
 
 
 def heard(coder, row, *, state=(0, 0)):
     """The tuple of the samples of a row that begins in a state."""
     _need_all(coder, row, state)
-    samples = []
-    now = state
-    for code in row:
-        now = state_behind(coder, now, code)
-        samples.append(now[0])
-    return tuple(samples)
+    return tuple(samples_along(coder, row, state))
 
 
 def last_state(coder, row, *, state=(0, 0)):

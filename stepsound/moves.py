@@ -48,3 +48,13 @@ def state_behind_row(coder, row, state):
     for code in row:
         now = state_behind(coder, now, code)
     return now
+
+
+def samples_along(coder, row, state):
+    """The list of the samples that are heard of a row that begins in a state."""
+    samples = []
+    now = state
+    for code in row:
+        now = state_behind(coder, now, code)
+        samples.append(now[0])
+    return samples

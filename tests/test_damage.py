@@ -6,7 +6,7 @@ from random import Random
 from stepsound.damage import healed, received
 from stepsound.errors import BadCoder, BadRow, OutOfPlace
 from tests.things import CLIMB, DROPS, FADING, GREATEST, HUGE, LEAST, NO_CODERS, NO_PARTS, NO_TUPLES, Refusals, SMALL
-from tests.things import STILL, TINY, WRONG_NUMBERS, coder_with, no_states, random_coders, random_row, replaced
+from tests.things import STILL, TINY, WRONG_NUMBERS, coder_with, no_states, random_coders, random_row
 from tests.things import states, told_row
 
 CALLS = (received, healed)

@@ -25,6 +25,18 @@ FUNCTIONS = {
         "received": "coder row damage", "healed": "coder row damage *state",
         "healing": "coder kind", "check_healing": "coder kind paper",
     },
+    "alike": {
+        "alike": "coder other one two", "check_alike": "coder other one two paper", "classes": "coder",
+    },
+    "speaking": {
+        "error_of": "coder signal row *state", "greedy_row": "coder signal *state",
+        "best_row": "coder signal *state", "check_best": "coder signal row prices *state",
+    },
+    "following": {
+        "followed": "coder signal bound *state", "check_followed": "coder signal bound paper *state",
+        "greatest_loss": "coder many *state",
+    },
+    "seams": {"reached": "coder one", "row_to": "coder one other", "seam": "coder one row *state"},
 }
 ERRORS = {
     "BadCoder": "part number", "BadRow": "row word", "BadPaper": "part number", "BadByte": "number",

@@ -55,6 +55,11 @@ NO_PARTS = NO_NUMBERS + ((), (0,), (0, 0), (0, 0, 0), [()], "always", "lost", -1
 
 NO_PAIRS = NO_NUMBERS + ((), (0,), (0, 0, 0), [0, 0], "ab", b"ab", {0: 0, 1: 1}, 0, 1, HUGE, -HUGE)
 
+NO_SIGNALS = NO_TUPLES + tuple((thing,) for thing in WRONG_NUMBERS) + (
+    (40001,), (-40001,), (0, 40001), (0, -40001, 0), (0,) * 65, (0,) * 64 + (None,), (0,) * 63 + (None,), [0], [],
+    (0, None), ("0",), ((0, 0),),
+)
+
 
 def coder_with(many, places=1, fade=0):
     """A coder with so many levels, and so many states at each."""
@@ -123,6 +128,10 @@ def random_coders(many):
 
 def random_row(rng, coder, many):
     return tuple(rng.randrange(len(coder[3])) for _ in range(many))
+
+
+def random_signal(rng, coder, many):
+    return tuple(rng.randint(coder[0] - 3, coder[1] + 3) for _ in range(many))
 
 
 def replaced(things, index, thing):
