@@ -1,4 +1,4 @@
-"""[7] to [10] told a second time, by searches through everything, without the package."""
+"""[7] to [10] and [16] told a second time, by searches through everything, without the package."""
 
 from random import Random
 
@@ -191,6 +191,27 @@ def verdict_healing(search, kind, paper):
 
 def is_told_codes_of(search, kind, thing):
     return are_codes(search, thing) and thing in search.all_codes(kind)
+
+
+def rows_from(coder, one):
+    """For each state that rows reach, the first of the shortest rows, by growing all rows code by code."""
+    found = {one: ()}
+    rows = {(): one}
+    while rows:
+        longer = {row + (code,): told_step(coder, state, code)[1]
+                  for row, state in rows.items() for code in range(len(coder[3]))}
+        rows = {}
+        for row in sorted(longer):
+            if longer[row] not in found:
+                found[longer[row]] = row
+                rows[row] = longer[row]
+    return found
+
+
+def told_seam(coder, one, row, state):
+    samples = told_row(coder, row, state)[0]
+    rows = [way for other, way in rows_from(coder, one).items() if told_row(coder, row, other)[0] == samples]
+    return min(rows, key=lambda way: (len(way), way), default=None)
 
 
 def spoiled(rng, thing, wrong):

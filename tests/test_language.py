@@ -8,7 +8,7 @@ PACKAGE = Path(__file__).resolve().parent.parent / "stepsound"
 LIBRARY = {"heapq", "math", "itertools"}
 BUILTINS = set(
     "len range enumerate zip min max sum abs sorted reversed int str bool list tuple dict set isinstance ord repr any"
-    " all divmod iter next map ValueError OverflowError LookupError NotImplemented".split()
+    " all divmod iter next map ValueError OverflowError LookupError NotImplemented property".split()
 )
 
 
@@ -35,7 +35,7 @@ class LanguageTest(unittest.TestCase):
             for node in ast.walk(tree):
                 if isinstance(node, ast.FunctionDef):
                     self.assertLessEqual(node.end_lineno - node.lineno + 1, 40, (name, node.name))
-                    self.assertEqual(node.decorator_list, [], (name, node.name))
+                    self.assertLessEqual({ast.unparse(one) for one in node.decorator_list}, {"property"}, node.name)
 
     def test_imports(self):
         for name, tree in trees():
@@ -45,6 +45,17 @@ class LanguageTest(unittest.TestCase):
                     self.assertIn(node, tree.body, name)
                     self.assertTrue(node.module in LIBRARY or node.module.startswith("stepsound."), name)
                     self.assertEqual(node.level, 0, name)
+
+    def test_properties_are_of_classes(self):
+        for name, tree in trees():
+            functions = [node for node in tree.body if isinstance(node, ast.FunctionDef)]
+            self.assertEqual([one.name for one in functions if one.decorator_list], [], name)
+
+    def test_no_generators_beside_classes_that_compare(self):
+        for name, tree in trees():
+            for node in ast.walk(tree):
+                if isinstance(node, ast.Call) and ast.unparse(node.func) in ("any", "all", "min", "max", "sum", "sorted"):
+                    self.assertFalse([one for one in node.args if isinstance(one, ast.GeneratorExp)], name)
 
     def test_builtins(self):
         for name, tree in trees():

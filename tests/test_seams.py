@@ -6,9 +6,9 @@ from random import Random
 from stepsound.errors import BadCoder, BadRow, OutOfPlace, TooGreat
 from stepsound.hearing import heard
 from stepsound.seams import reached, row_to, seam
-from tests.search import few_coders
+from tests.search import few_coders, rows_from, told_seam
 from tests.things import CLIMB, DROPS, FADING, GREATEST, HUGE, LEAST, NO_CODERS, NO_TUPLES, Refusals, SMALL, STILL, TINY
-from tests.things import coder_with, no_states, random_row, replaced, states, told_row, told_step
+from tests.things import coder_with, no_states, random_row, replaced, states, told_row
 
 START = (0, 0)
 # Each code goes down by 1, or up by 2.
@@ -18,27 +18,6 @@ CALLS = (
     lambda coder, one, **named: row_to(coder, one, None),
     lambda coder, one, **named: seam(coder, one, None, **named),
 )
-
-
-def rows_from(coder, one):
-    """For each state that rows reach, the first of the shortest rows, by growing all rows code by code."""
-    found = {one: ()}
-    rows = {(): one}
-    while rows:
-        longer = {row + (code,): told_step(coder, state, code)[1]
-                  for row, state in rows.items() for code in range(len(coder[3]))}
-        rows = {}
-        for row in sorted(longer):
-            if longer[row] not in found:
-                found[longer[row]] = row
-                rows[row] = longer[row]
-    return found
-
-
-def told_seam(coder, one, row, state):
-    samples = told_row(coder, row, state)[0]
-    rows = [way for other, way in rows_from(coder, one).items() if told_row(coder, row, other)[0] == samples]
-    return min(rows, key=lambda way: (len(way), way), default=None)
 
 
 class ReachedTest(unittest.TestCase):

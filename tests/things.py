@@ -5,6 +5,10 @@ from itertools import product
 from math import trunc
 from random import Random
 
+from stepsound.clips import Clip
+from stepsound.desk import Desk
+from stepsound.hearers import Hearer
+
 SMALL = (-8, 7, (2, 4, 8), ((4, -1), (-4, -1), (8, 1), (-8, 1)), 0)
 TINY = (-1, 1, (1,), ((8, 0), (-8, 0)), 0)
 CLIMB = (0, 8, (1, 4), ((8, -1), (8, 1), (-8, -1)), 0)
@@ -35,12 +39,17 @@ class Odd:
     __ne__ = __lt__ = __le__ = __gt__ = __ge__ = __hash__ = __bool__ = __len__ = __iter__ = __repr__ = __eq__
 
 
+# The package's own objects and classes; no test changes them.
+OWN_THINGS = (
+    Clip(TINY), Clip(SMALL, (0, 1), state=(1, 1)), Hearer(TINY), Desk(Clip(TINY)), Desk(Clip(SMALL, (2, 0))), Clip, Desk,
+)
+
 # None of these is an integer, a tuple of two or five things, a row or a text.
 NO_NUMBERS = (
     None, True, False, "", "0", "text", b"", b"\x00", 0.0, 1.0, 1.5, float("nan"), 1j,
     [], [0], [0, 0], {}, {0: 0}, set(), frozenset(), object(), int, len, range(2), lambda: 0,
     Odd(), ValueError("0"), Fraction(1), (None,), ((0,),), deep_tuple(), (True, False, None),
-)
+) + OWN_THINGS
 WRONG_NUMBERS = NO_NUMBERS + ((), (0,), (0, 0), (0, 0, 0), HUGE, -HUGE)
 NO_TUPLES = tuple(thing for thing in NO_NUMBERS if not isinstance(thing, tuple)) + (0, 1, -1, HUGE, -HUGE)
 NO_TEXTS = tuple(thing for thing in WRONG_NUMBERS if not isinstance(thing, str)) + (0, 1, ("0",), ["0"])
