@@ -1,12 +1,15 @@
-"""[4] to [16] for a coder and for that with the opposite limits and shares: [23]."""
+"""[4] to [18] for a coder and for that with the opposite limits and shares: [23]."""
 
 import unittest
 from random import Random
 
 from stepsound.alike import alike, check_alike, classes
+from stepsound.clips import Clip
 from stepsound.coders import change_of, is_coder, led_to
 from stepsound.damage import check_healing, healed, healing, received
+from stepsound.desk import Desk
 from stepsound.following import check_followed, followed, greatest_loss
+from stepsound.hearers import Hearer
 from stepsound.hearing import heard, last_state
 from stepsound.maps import limits_of, row_map
 from stepsound.repeats import last_of, sample_at, settling
@@ -159,6 +162,34 @@ class OppositesTest(unittest.TestCase):
                 for two in states(coder)[::3]:
                     self.assertEqual(row_to(opposite, other(one), other(two)), row_to(coder, one, two))
                     self.assertEqual(seam(opposite, other(one), row, state=other(two)), seam(coder, one, row, state=two))
+
+    def test_hearers(self):
+        for coder in list(random_coders(20)) + self.coders:
+            state = self.rng.randint(coder[0], coder[1]), self.rng.randrange(len(coder[2]))
+            hearer, opposite = Hearer(coder, state=state), Hearer(turned(coder), state=other(state))
+            for code in random_row(self.rng, coder, 20):
+                self.assertEqual(opposite(code), -hearer(code))
+                self.assertEqual(opposite.state, other(hearer.state))
+
+    def test_clips(self):
+        for coder in self.coders:
+            row = random_row(self.rng, coder, 3)
+            for state in states(coder)[::3]:
+                clip, opposite = Clip(coder, row, state=state), Clip(turned(coder), row, state=other(state))
+                self.assertEqual((opposite.heard(), opposite.last()), (negative(clip.heard()), other(clip.last())))
+                if seam(coder, clip.last(), row, state=state) is not None:
+                    self.assertEqual((opposite + opposite).codes, (clip + clip).codes)
+                self.assertEqual([-level in opposite for level in range(-9, 10)],
+                                 [level in clip for level in range(-9, 10)])
+
+    def test_desks(self):
+        for coder in self.coders:
+            desk, opposite = Desk(Clip(coder, (0, 1, 1, 0))), Desk(Clip(turned(coder), (0, 1, 1, 0)))
+            for step in (("put", 2, 0), ("cut", 0, 2), ("set", 1, 1), ("put", 0, 1)):
+                first, old, new = desk.do(step)
+                self.assertEqual(opposite.do(step), (first, negative(old), negative(new)))
+            first, old, new = desk.do(("from", (coder[1], 0)))
+            self.assertEqual(opposite.do(("from", (-coder[1], 0))), (first, negative(old), negative(new)))
 
 
 if __name__ == "__main__":

@@ -53,6 +53,7 @@ NO_NUMBERS = (
 WRONG_NUMBERS = NO_NUMBERS + ((), (0,), (0, 0), (0, 0, 0), HUGE, -HUGE)
 NO_TUPLES = tuple(thing for thing in NO_NUMBERS if not isinstance(thing, tuple)) + (0, 1, -1, HUGE, -HUGE)
 NO_TEXTS = tuple(thing for thing in WRONG_NUMBERS if not isinstance(thing, str)) + (0, 1, ("0",), ["0"])
+NO_CLIPS = tuple(thing for thing in WRONG_NUMBERS if not isinstance(thing, Clip)) + (0, 1, SMALL, (SMALL, (0,), (0, 0)))
 
 NO_CODERS = NO_TUPLES + (
     (), (0,), (0, 0), deep_tuple(), SMALL[:4], SMALL + (0,), (SMALL,), list(SMALL),
