@@ -222,6 +222,14 @@ class CopyTest(Refusals, unittest.TestCase):
         self.assert_refused(Nothing, {}, copy.undo)
         self.assertEqual(copy.clip(), Clip(SMALL, ROW))
 
+    def test_copies_behind_each_step(self):
+        desk = Desk(Clip(SMALL, ROW, state=(1, 1)))
+        for step in (("from", (7, 2)), ("put", 0, 1), ("from", (-3, 0)), ("cut", 0, 4), ("set", 0, 0)):
+            desk.do(step)
+            self.assertEqual(standing(desk.copy()), standing(desk))
+            self.assertEqual(standing(desk.copy().copy()), standing(desk))
+            self.assertEqual((desk.copy().clip(), desk.copy().heard()), (desk.clip(), desk.heard()))
+
     def test_copies_of_new_desks(self):
         desk = Desk(Clip(TINY))
         copy = desk.copy()
